@@ -68,7 +68,8 @@ func (p *parser) counted(name string, uses int) (Iso, int, api.Errno) {
 	behind := p.behind(first, digits)
 	switch {
 	case behind == first:
-		return Iso{}, at, api.ErrForm
+		// A sign may stand where an integer must: what can't stand then is what comes behind it.
+		return Iso{}, first, api.ErrForm
 	case p.s[first] == '0' && behind > first+1:
 		return Iso{}, first + 1, api.ErrForm
 	}

@@ -20,6 +20,7 @@ var (
 	blankPiece  = regexp.MustCompile(`^[ \t\n\r]*`)
 	wordPiece   = regexp.MustCompile(`^[A-Za-z][A-Za-z0-9_]*`)
 	numberPiece = regexp.MustCompile(`^-?[0-9]+`)
+	signPiece   = regexp.MustCompile(`^-?`)
 	zeroGoesOn  = regexp.MustCompile(`^-?0[0-9]`)
 )
 
@@ -62,7 +63,7 @@ func toldNumber(s string, at int, no0 bool) (int64, int, int, api.Errno) {
 	n, _ := new(big.Int).SetString(digits, 10)
 	switch zero := zeroGoesOn.FindString(s[at:]); {
 	case digits == "":
-		return 0, 0, at, api.ErrForm
+		return 0, 0, at + len(signPiece.FindString(s[at:])), api.ErrForm
 	case zero != "":
 		return 0, 0, at + len(zero) - 1, api.ErrForm
 	case !n.IsInt64():
@@ -224,7 +225,9 @@ func TestErrorsOfTexts(t *testing.T) { // P11.1
 		// It must be one that is known.
 		"x": {0, api.ErrName}, "Neg": {0, api.ErrName}, "NEG": {0, api.ErrName}, "ne": {0, api.ErrName}, "negg": {0, api.ErrName}, "neg2": {0, api.ErrName}, "neg_": {0, api.ErrName}, "neg_ |": {0, api.ErrName}, "plus2": {0, api.ErrName}, "times0": {0, api.ErrName}, "tags \"a\"": {0, api.ErrName}, "tag_\"a\"": {0, api.ErrName}, " minus 2": {1, api.ErrName}, "reverse": {0, api.ErrName}, "negrev": {0, api.ErrName}, "map(neg, x)": {0, api.ErrName}, "just": {0, api.ErrName}, "or": {0, api.ErrName}, "neg|x": {4, api.ErrName}, "neg | Rev | neg": {6, api.ErrName}, "plus 2 | plus2": {9, api.ErrName}, "x\xff": {0, api.ErrName}, "unbox": {0, api.ErrName}, "untag \"a\"": {0, api.ErrName},
 		// An integer must stand.
-		"plus": {4, api.ErrForm}, "plus ": {5, api.ErrForm}, "times": {5, api.ErrForm}, "plus|neg": {4, api.ErrForm}, "plus | neg": {5, api.ErrForm}, "plus x": {5, api.ErrForm}, "plus +2": {5, api.ErrForm}, `plus "2"`: {5, api.ErrForm}, "plus _2": {5, api.ErrForm}, "plus .5": {5, api.ErrForm}, "plus (2)": {5, api.ErrForm}, "plus \u0667": {5, api.ErrForm}, "plus\u00e9": {4, api.ErrForm}, "plus\xff": {4, api.ErrForm}, "plus -": {5, api.ErrForm}, "plus -x": {5, api.ErrForm}, "plus - 2": {5, api.ErrForm}, "plus --2": {5, api.ErrForm}, "plus-": {4, api.ErrForm}, "plus-|": {4, api.ErrForm}, "times ,": {6, api.ErrForm}, "neg | times": {11, api.ErrForm}, "neg | times )": {12, api.ErrForm},
+		"plus": {4, api.ErrForm}, "plus ": {5, api.ErrForm}, "times": {5, api.ErrForm}, "plus|neg": {4, api.ErrForm}, "plus | neg": {5, api.ErrForm}, "plus x": {5, api.ErrForm}, "plus +2": {5, api.ErrForm}, `plus "2"`: {5, api.ErrForm}, "plus _2": {5, api.ErrForm}, "plus .5": {5, api.ErrForm}, "plus (2)": {5, api.ErrForm}, "plus \u0667": {5, api.ErrForm}, "plus\u00e9": {4, api.ErrForm}, "plus\xff": {4, api.ErrForm}, "times ,": {6, api.ErrForm}, "neg | times": {11, api.ErrForm}, "neg | times )": {12, api.ErrForm},
+		// Behind a sign a digit must.
+		"plus -": {6, api.ErrForm}, "plus -x": {6, api.ErrForm}, "plus - 2": {6, api.ErrForm}, "plus --2": {6, api.ErrForm}, "plus -+2": {6, api.ErrForm}, "plus - ": {6, api.ErrForm}, "plus -\n2": {6, api.ErrForm}, "plus -.5": {6, api.ErrForm}, "plus -_": {6, api.ErrForm}, `plus -"2"`: {6, api.ErrForm}, "plus -\u0667": {6, api.ErrForm}, "plus -\xff": {6, api.ErrForm}, "plus -\u2212": {6, api.ErrForm}, "plus \u22122": {5, api.ErrForm}, "plus-": {5, api.ErrForm}, "plus-|": {5, api.ErrForm}, "plus-x": {5, api.ErrForm}, "plus--": {5, api.ErrForm}, "plus\n\t-,": {7, api.ErrForm}, "times -": {7, api.ErrForm}, "times -x": {7, api.ErrForm}, "times-": {6, api.ErrForm}, "times - 0": {7, api.ErrForm}, "neg | plus -|rev": {12, api.ErrForm}, "plus 2 | times -)": {16, api.ErrForm}, "plus -/": {6, api.ErrForm}, "plus -:": {6, api.ErrForm},
 		"plus 00": {6, api.ErrForm}, "plus 01": {6, api.ErrForm}, "plus -00": {7, api.ErrForm}, "plus -01": {7, api.ErrForm}, "plus-07": {6, api.ErrForm}, "plus 007": {6, api.ErrForm}, "times 00": {7, api.ErrForm}, "times -00": {8, api.ErrForm}, "times 02": {7, api.ErrForm}, "plus 09223372036854775808": {6, api.ErrForm}, "plus -099999999999999999999": {7, api.ErrForm}, "neg|plus 01 | x": {10, api.ErrForm}, "times 0" + strings.Repeat("0", 100): {7, api.ErrForm},
 		// It must be one of 64 bits, and of times not 0.
 		"plus 9223372036854775808": {5, api.ErrNumber}, "plus -9223372036854775809": {5, api.ErrNumber}, "plus-9223372036854775809": {4, api.ErrNumber}, "times 18446744073709551616": {6, api.ErrNumber}, "times 18446744073709551617x": {6, api.ErrNumber}, "plus  99999999999999999999 | x": {6, api.ErrNumber}, "neg|plus 99999999999999999999": {9, api.ErrNumber}, "plus 9223372036854775808.5": {5, api.ErrNumber}, "plus " + strings.Repeat("9", 5000): {5, api.ErrNumber},
